@@ -21,9 +21,9 @@ func lastOf(s string, at int) character {
 
 var bad = character{0xfffd, 1, false}
 
-// samples are the texts that every call is tried at by hand: the least and the greatest character of each row of the
+// someTexts are the texts that every call is tried at by hand: the least and the greatest character of each row of the
 // table, and what is just beside them.
-var samples = []struct {
+var someTexts = []struct {
 	s     string
 	first character
 	count int
@@ -79,7 +79,7 @@ var samples = []struct {
 }
 
 func TestP1_1NextAtEdgesOfTheTable(t *testing.T) {
-	for _, x := range samples {
+	for _, x := range someTexts {
 		if got := nextOf(x.s, 0); got != x.first {
 			t.Errorf("Next(%x, 0) = %v, want %v", x.s, got, x.first)
 		}
@@ -107,7 +107,7 @@ func TestP1_1NextAtWrongPlaces(t *testing.T) {
 }
 
 func TestP1_2LastAtEdgesOfTheTable(t *testing.T) {
-	for _, x := range samples {
+	for _, x := range someTexts {
 		want := x.first
 		if x.count > 1 {
 			want = charactersOf(x.s)[x.count-1]
@@ -184,7 +184,7 @@ func TestP1_3Lists(t *testing.T) {
 }
 
 func TestP1_3CountAndValidAtEdgesOfTheTable(t *testing.T) {
-	for _, x := range samples {
+	for _, x := range someTexts {
 		if got := char.Count(x.s); got != x.count {
 			t.Errorf("Count(%x) = %d, want %d", x.s, got, x.count)
 		}
@@ -244,7 +244,7 @@ func TestP1_3ListsAreNew(t *testing.T) {
 }
 
 func TestP1_5WholeAtEdgesOfTheTable(t *testing.T) {
-	for _, x := range samples {
+	for _, x := range someTexts {
 		if got := char.Whole(x.s); got != x.whole {
 			t.Errorf("Whole(%x) = %d, want %d", x.s, got, x.whole)
 		}

@@ -1,6 +1,11 @@
 package char_test
 
-import "fmt"
+import (
+	"fmt"
+	"iter"
+
+	"colophon/samples"
+)
 
 // The document's table of good characters, written out once more and read byte by byte, so that the package is held
 // against the document and not against a range over a string, of which it is made.
@@ -97,23 +102,10 @@ func wholeOf(s string) int {
 }
 
 // edgeTexts goes through all texts of at most so many edge bytes.
-func edgeTexts(most int) func(func(string) bool) {
-	return func(yield func(string) bool) {
-		var grow func(b []byte) bool
-		grow = func(b []byte) bool {
-			if !yield(string(b)) {
-				return false
-			}
-			if len(b) == most {
-				return true
-			}
-			for _, x := range edgeBytes {
-				if !grow(append(b, x)) {
-					return false
-				}
-			}
-			return true
-		}
-		grow(make([]byte, 0, most))
+func edgeTexts(most int) iter.Seq[string] {
+	parts := make([]string, len(edgeBytes))
+	for i, b := range edgeBytes {
+		parts[i] = string([]byte{b})
 	}
+	return samples.Texts(parts, most)
 }

@@ -1,11 +1,13 @@
 package width_test
 
 import (
+	"iter"
 	"strconv"
 	"strings"
 	"testing"
 
 	"colophon/char"
+	"colophon/samples"
 )
 
 // The document's words, as they stand there, so that the package's table is held against them and not against a copy
@@ -114,23 +116,4 @@ var parts = []string{
 }
 
 // texts goes through all texts of at most so many parts.
-func texts(most int) func(func(string) bool) {
-	return func(yield func(string) bool) {
-		var grow func(s string, n int) bool
-		grow = func(s string, n int) bool {
-			if !yield(s) {
-				return false
-			}
-			if n == most {
-				return true
-			}
-			for _, p := range parts {
-				if !grow(s+p, n+1) {
-					return false
-				}
-			}
-			return true
-		}
-		grow("", 0)
-	}
-}
+func texts(most int) iter.Seq[string] { return samples.Texts(parts, most) }
