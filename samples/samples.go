@@ -1,4 +1,5 @@
-// Package samples makes the texts at which the tests hold the layers' calls against the document. No layer calls it.
+// Package samples makes the texts and the points at which the tests hold the layers' calls against the document. No
+// layer calls it.
 package samples
 
 import "iter"

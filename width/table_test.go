@@ -2,8 +2,6 @@ package width_test
 
 import (
 	"iter"
-	"strconv"
-	"strings"
 	"testing"
 
 	"colophon/char"
@@ -17,42 +15,17 @@ const (
 	noColumns  = "300 to 36F, 200B to 200F, 20D0 to 20FF, FE00 to FE0F, or FE20 to FE2F"
 )
 
-// span is a first and a last point.
-type span struct{ first, last int }
-
-// spansOf reads the spans of the document's words.
-func spansOf(t testing.TB, words string) []span {
-	t.Helper()
-	var l []span
-	for _, part := range strings.Split(words, ",") {
-		part = strings.TrimPrefix(strings.TrimSpace(part), "or ")
-		first, last, ok := strings.Cut(part, " to ")
-		if !ok {
-			t.Fatalf("no span: %q", part)
-		}
-		l = append(l, span{numberOf(t, first), numberOf(t, last)})
-	}
-	return l
-}
-
-func numberOf(t testing.TB, s string) int {
-	t.Helper()
-	n, err := strconv.ParseInt(s, 16, 0)
-	if err != nil {
-		t.Fatal(err)
-	}
-	return int(n)
-}
-
 // columnsOf is, by the document's words, how many columns each point has that has not one.
 func columnsOf(t testing.TB) map[int]int {
 	t.Helper()
 	m := map[int]int{}
 	for columns, words := range map[int]string{2: twoColumns, 0: noColumns} {
-		for _, p := range spansOf(t, words) {
-			for n := p.first; n <= p.last; n++ {
-				m[n] = columns
-			}
+		points, err := samples.Points(words)
+		if err != nil {
+			t.Fatal(err)
+		}
+		for _, n := range points {
+			m[n] = columns
 		}
 	}
 	return m
