@@ -6,6 +6,7 @@ import (
 	"testing"
 
 	"colophon/api"
+	"colophon/samples"
 )
 
 func TestP8_1BlocksAsWideAsTheRoom(t *testing.T) {
@@ -161,10 +162,10 @@ func TestP8_1WhatHangsAsWideAsTheRoom(t *testing.T) {
 			l := of(c.ahead + " B2 " + h.words + " " + c.behind)
 			fits, wider := "aaa  "+h.line, "aaa\n"+c.indent+h.line
 			if got := strings.TrimPrefix(printed(t, 9, l), "x\n"); !strings.HasPrefix(got, fits) {
-				t.Errorf("Print(9, %s) = %q: it fits", shortLayout(l), got)
+				t.Errorf("Print(9, %s) = %q: it fits", samples.Words(l), got)
 			}
 			if got := strings.TrimPrefix(printed(t, 8, l), "x\n"); !strings.HasPrefix(got, wider) {
-				t.Errorf("Print(8, %s) = %q: it is wider", shortLayout(l), got)
+				t.Errorf("Print(8, %s) = %q: it is wider", samples.Words(l), got)
 			}
 		}
 	}

@@ -9,6 +9,8 @@ import (
 	"unsafe"
 
 	"colophon/api"
+	"colophon/plain"
+	"colophon/samples"
 	"colophon/whole"
 	"colophon/width"
 )
@@ -62,7 +64,7 @@ func blockOf(l []api.Doc, begin int) []api.Doc {
 // all of it stands there in one line.
 func TestP8_2InABlockThatFitsAllBreaksAreBlanks(t *testing.T) {
 	fits, inner := 0, 0
-	for l := range layouts("a B1 H [1 [e2 ]", 8) {
+	for l := range samples.Layouts("a B1 H [1 [e2 ]", 8) {
 		l = named(l)
 		for columns := 2; columns <= 10; columns += 2 {
 			s := printed(t, columns, l)
@@ -72,7 +74,7 @@ func TestP8_2InABlockThatFitsAllBreaksAreBlanks(t *testing.T) {
 				}
 				block := blockOf(l, i)
 				line := flat(block)
-				if slices.Contains(block, piece("H")) {
+				if slices.Contains(block, samples.Piece("H")) {
 					continue
 				}
 				at := strings.Index(s, l[i+1].Text)
@@ -83,7 +85,7 @@ func TestP8_2InABlockThatFitsAllBreaksAreBlanks(t *testing.T) {
 				fits++
 				inner += strings.Count(line, " ")
 				if !strings.HasPrefix(s[at:], strings.TrimRight(line, " ")) {
-					t.Fatalf("Print(%d, %s) = %q: the block %d fits", columns, shortLayout(l), s, i)
+					t.Fatalf("Print(%d, %s) = %q: the block %d fits", columns, samples.Words(l), s, i)
 				}
 			}
 		}
@@ -99,11 +101,11 @@ func linesAreRight(t *testing.T, columns int, l []api.Doc) (ends, empties int) {
 	s := printed(t, columns, l)
 	switch {
 	case strings.Contains(s, " \n") || strings.HasSuffix(s, " "):
-		t.Fatalf("Print(%d, %s) = %s: a line ends with a blank", columns, shortLayout(l), short(s))
+		t.Fatalf("Print(%d, %s) = %s: a line ends with a blank", columns, samples.Words(l), samples.Short(s))
 	case strings.HasPrefix(s, "\n"):
-		t.Fatalf("Print(%d, %s) = %s: it begins with an empty line", columns, shortLayout(l), short(s))
+		t.Fatalf("Print(%d, %s) = %s: it begins with an empty line", columns, samples.Words(l), samples.Short(s))
 	case strings.Contains(s, "\n\n\n"):
-		t.Fatalf("Print(%d, %s) = %s: two empty lines", columns, shortLayout(l), short(s))
+		t.Fatalf("Print(%d, %s) = %s: two empty lines", columns, samples.Words(l), samples.Short(s))
 	}
 	return strings.Count(s, "\n"), strings.Count(s, "\n\n")
 }
@@ -114,14 +116,14 @@ func TestP8_2Lines(t *testing.T) {
 		n, m := linesAreRight(t, columns, l)
 		ends, empties = ends+n, empties+m
 	}
-	for l := range layouts("a S B0 B2 H E [1 [e2 ]", 6) {
+	for l := range samples.Layouts("a S B0 B2 H E [1 [e2 ]", 6) {
 		for _, columns := range []int{1, 2, 4, 4096} {
 			hold(columns, l)
 		}
 	}
 	r := rand.New(rand.NewPCG(8, 2))
 	for range 500 {
-		l := someLayout(r, "a bb \xff 日 c_d S B0 B1 B9 H E E [0 [1 [e2 [500 ] ]", 400)
+		l := samples.SomeLayout(r.IntN, "a bb \xff 日 c_d S B0 B1 B9 H E E [0 [1 [e2 [500 ] ]", 400)
 		for _, columns := range []int{1, 5, 80, 600, 4096} {
 			hold(columns, l)
 		}
@@ -133,11 +135,11 @@ func TestP8_2Lines(t *testing.T) {
 
 // A line with a Text that has line ends may end with a blank that stands in the Text, and with no other.
 func TestP8_2BlanksInTexts(t *testing.T) {
-	for l := range layouts("a {_|_} x S B1 H E [e2 ]", 6) {
+	for l := range samples.Layouts("a {_|_} x S B1 H E [e2 ]", 6) {
 		s := printed(t, 3, l)
 		s = strings.ReplaceAll(s, "{ \n", "{\n")
 		if strings.Contains(s, " \n") || strings.HasSuffix(s, " ") {
-			t.Fatalf("Print(3, %s) = %q without the Texts' blanks", shortLayout(l), s)
+			t.Fatalf("Print(3, %s) = %q without the Texts' blanks", samples.Words(l), s)
 		}
 	}
 }
@@ -157,12 +159,12 @@ func TestP8_3AllInOneLine(t *testing.T) {
 			t.FailNow()
 		}
 	}
-	for l := range layouts("a 日 S B0 B2 [1 [e2 ]", 6) {
+	for l := range samples.Layouts("a 日 S B0 B2 [1 [e2 ]", 6) {
 		hold(l)
 	}
 	r := rand.New(rand.NewPCG(8, 3))
 	for range 1000 {
-		hold(someLayout(r, "a bb 日 \u0301 \xff c_d S B0 B1 B7 [0 [1 [e2 [e500 ] ]", r.IntN(300)))
+		hold(samples.SomeLayout(r.IntN, "a bb 日 \u0301 \xff c_d S B0 B1 B7 [0 [1 [e2 [e500 ] ]", r.IntN(300)))
 	}
 	if met < 10000 {
 		t.Errorf("only %d layouts", met)
@@ -194,7 +196,7 @@ func bare(l []api.Doc) bool {
 
 func TestP8_3BlocksThatMeanNothing(t *testing.T) {
 	met := 0
-	for l := range layouts("a b|cc S B1 H E [1 [e2 ]", 6) {
+	for l := range samples.Layouts("a b|cc S B1 H E [1 [e2 ]", 6) {
 		if !bare(l) || !slices.ContainsFunc(l, func(d api.Doc) bool { return d.Kind == api.Begin }) {
 			continue
 		}
@@ -224,7 +226,7 @@ func TestR2ListsAreNotWrittenInto(t *testing.T) {
 				t.Errorf("Print(%d, %q) = %q, %d with spare room, %q, %d without", columns, words, first, e1, second, e2)
 			}
 			if !slices.Equal(room, kept) {
-				t.Fatalf("%q: the list or its spare room is changed: %s", words, shortLayout(room))
+				t.Fatalf("%q: the list or its spare room is changed: %s", words, samples.Words(room))
 			}
 		}
 	}
@@ -245,8 +247,8 @@ func TestR2CallsKnowNothingOfOneAnother(t *testing.T) {
 	var all [][]api.Doc
 	var want []string
 	for range 50 {
-		l := someLayout(r, "a bb ccc S B1 B1 H E [2 [e2 ] x|y", 200)
-		all, want = append(all, l), append(want, plainPrint(12, l))
+		l := samples.SomeLayout(r.IntN, "a bb ccc S B1 B1 H E [2 [e2 ] x|y", 200)
+		all, want = append(all, l), append(want, plain.Print(12, l))
 	}
 	var group sync.WaitGroup
 	for range 4 {
@@ -255,7 +257,7 @@ func TestR2CallsKnowNothingOfOneAnother(t *testing.T) {
 				whole.Print(12, of("[2 a"))
 				whole.Print(0, l)
 				if s, e := whole.Print(12, l); s != want[i] || e != api.OK {
-					t.Errorf("Print(12, %s) = %s, %d, not %s", shortLayout(l), short(s), e, short(want[i]))
+					t.Errorf("Print(12, %s) = %s, %d, not %s", samples.Words(l), samples.Short(s), e, samples.Short(want[i]))
 				}
 			}
 		})

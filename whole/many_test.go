@@ -7,6 +7,8 @@ import (
 	"testing"
 
 	"colophon/api"
+	"colophon/plain"
+	"colophon/samples"
 )
 
 func TestP8_1ManyBlocksWithinOneAnother(t *testing.T) {
@@ -64,10 +66,10 @@ func TestP8_1AllShortLayouts(t *testing.T) {
 		{"a B2 H [e1 ]", 9, 4},
 	} {
 		met := 0
-		for l := range layouts(c.words, c.most) {
+		for l := range samples.Layouts(c.words, c.most) {
 			met++
 			for columns := 1; columns <= c.upTo; columns++ {
-				printIs(t, columns, l, plainPrint(columns, l))
+				printIs(t, columns, l, plain.Print(columns, l))
 			}
 			if t.Failed() {
 				t.FailNow()
@@ -87,9 +89,9 @@ func TestP8_1SomeGreaterLayouts(t *testing.T) {
 		"a B1 B1 B1000 S [1 [400 [e700 [1000 ] ] ] H E x|y",
 	} {
 		for range 1500 {
-			l := someLayout(r, words, r.IntN(80))
+			l := samples.SomeLayout(r.IntN, words, r.IntN(80))
 			for _, columns := range []int{1, 2, 3, 5, 8, 13, 21, 40, 80, 1000, 1400, 4096} {
-				printIs(t, columns, l, plainPrint(columns, l))
+				printIs(t, columns, l, plain.Print(columns, l))
 			}
 			if t.Failed() {
 				t.FailNow()

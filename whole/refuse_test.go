@@ -34,35 +34,8 @@ func TestP8_1Widths(t *testing.T) {
 	}
 }
 
-// wrong are pieces that are not right, of each kind.
-func wrong() []api.Doc {
-	l := []api.Doc{
-		{}, {Kind: 8}, {Kind: 9}, {Kind: 255}, {Text: "a"},
-		{Kind: api.Text}, {Kind: api.Text, Text: " "}, {Kind: api.Text, Text: "\n"}, {Kind: api.Text, Text: " a"},
-		{Kind: api.Text, Text: "a "}, {Kind: api.Text, Text: "\na"}, {Kind: api.Text, Text: "a\n"},
-		{Kind: api.Text, Text: strings.Repeat("a", 65536)},
-		{Kind: api.Break, Blanks: -1}, {Kind: api.Break, Blanks: 1001}, {Kind: api.Break, Blanks: math.MinInt}, {Kind: api.Break, Blanks: math.MaxInt},
-		{Kind: api.Begin, Indent: -1}, {Kind: api.Begin, Indent: 1001}, {Kind: api.Begin, Indent: math.MinInt}, {Kind: api.Begin, Indent: math.MaxInt},
-	}
-	for kind := api.Text; kind <= api.End; kind++ {
-		d := api.Doc{Kind: kind}
-		if kind == api.Text {
-			d.Text = "a"
-		} else {
-			l = append(l, api.Doc{Kind: kind, Text: "a"})
-		}
-		if kind != api.Break {
-			l = append(l, api.Doc{Kind: kind, Text: d.Text, Blanks: 1})
-		}
-		if kind != api.Begin {
-			l = append(l, api.Doc{Kind: kind, Text: d.Text, Indent: 1}, api.Doc{Kind: kind, Text: d.Text, Even: true})
-		}
-	}
-	return l
-}
-
 func TestP8_1PiecesThatAreNotRight(t *testing.T) {
-	for _, d := range wrong() {
+	for _, d := range samples.WrongPieces() {
 		for _, columns := range []int{1, 80, 4096} {
 			refused(t, columns, []api.Doc{d}, api.ErrDocForm)
 			for _, ahead := range []string{"", "a", "[2", "[2 a B1", "a H", "[2 ]"} {
@@ -97,7 +70,7 @@ func TestP8_1AllShortLayoutsRightAndWrong(t *testing.T) {
 		l := of(words)
 		want, _ := doc.Check(l)
 		if s, e := whole.Print(3, l); e != want || e != api.OK && s != "" {
-			t.Fatalf("Print(3, %s) = %q, %d, not %d", shortLayout(l), s, e, want)
+			t.Fatalf("Print(3, %s) = %q, %d, not %d", samples.Words(l), s, e, want)
 		}
 		if want == api.OK {
 			good++
@@ -130,7 +103,7 @@ func TestP8_1MorePiecesThanMaxDocs(t *testing.T) {
 	printIs(t, 1, l, strings.Repeat("a\n  ", times-1)+"a\n")
 	// The last Break has room, but its blank has no Text behind it.
 	printIs(t, 7, l, "a a a a\n"+strings.Repeat("  a a a\n", (times-4)/3)+"  a a")
-	for _, d := range []api.Doc{{}, piece("]"), piece("[2"), piece("B1001")} {
+	for _, d := range []api.Doc{{}, samples.Piece("]"), samples.Piece("[2"), samples.Piece("B1001")} {
 		refused(t, 7, append(slices.Clone(l), d), api.ErrDocForm)
 		refused(t, 4097, append(slices.Clone(l), d), api.ErrArg)
 	}
