@@ -7,6 +7,7 @@ import (
 
 	"colophon/api"
 	"colophon/class"
+	"colophon/samples"
 	"colophon/scan"
 )
 
@@ -52,7 +53,7 @@ var one = []struct {
 
 func TestP10_1EachKindAlone(t *testing.T) {
 	for _, k := range one {
-		hasKinds(t, k.text, kindWord(k.kind)+" "+k.text)
+		hasKinds(t, k.text, samples.KindWord(k.kind)+" "+k.text)
 	}
 }
 
@@ -61,7 +62,7 @@ func TestP10_1EachKindBehindBlanksAndLineEnds(t *testing.T) {
 		for _, gap := range []string{" ", "\t", "\r", "\n", "\r\n", "\n\r", "  ", "\n\n", " \n\t\n\r ", "\n\n\n \n"} {
 			feeds := strings.Count(gap, "\n")
 			line, column := 1+feeds, len(gap)-strings.LastIndex(gap, "\n")
-			want := fmt.Sprintf("%s %q %d %d:%d %d", kindWord(k.kind), k.text, len(gap), line, column, feeds)
+			want := fmt.Sprintf("%s %q %d %d:%d %d", samples.KindWord(k.kind), k.text, len(gap), line, column, feeds)
 			answers(t, gap+k.text, want)
 			if k.kind != api.TokLine {
 				answers(t, gap+k.text+gap, want)
@@ -90,9 +91,9 @@ func TestP10_1EachKindBehindEachOther(t *testing.T) {
 			if a.kind == api.TokLine && b.kind == api.TokBlock {
 				continue // the line ends within what were the block
 			}
-			want := kindWord(a.kind) + " " + a.text + "; " + kindWord(b.kind) + " " + b.text
+			want := samples.KindWord(a.kind) + " " + a.text + "; " + samples.KindWord(b.kind) + " " + b.text
 			if kind := merged(a.kind, b.kind); kind != 0 {
-				want = kindWord(kind) + " " + a.text + b.text
+				want = samples.KindWord(kind) + " " + a.text + b.text
 			}
 			hasKinds(t, a.text+b.text, want)
 		}
@@ -106,9 +107,9 @@ func TestP10_1EachKindInTheNextLine(t *testing.T) {
 			for _, gap := range []string{"\n", " \n", "\r\n", "\n \n", "\n\n\n"} {
 				l, code, _ := scan.All(a.text + gap + b.text)
 				if code != api.OK || len(l) != 2 || l[1].Feeds != strings.Count(gap, "\n") || l[0].Feeds != 0 {
-					t.Errorf("%q, %q, %q: %s", a.text, gap, b.text, answerWord(l, code, api.Place{}))
+					t.Errorf("%q, %q, %q: %s", a.text, gap, b.text, samples.AnswerWord(l, code, api.Place{}))
 				}
-				hasKinds(t, a.text+gap+b.text, kindWord(a.kind)+" "+a.text+"; "+kindWord(b.kind)+" "+b.text)
+				hasKinds(t, a.text+gap+b.text, samples.KindWord(a.kind)+" "+a.text+"; "+samples.KindWord(b.kind)+" "+b.text)
 			}
 		}
 	}

@@ -22,18 +22,18 @@ func follows(t *testing.T, s string) {
 	end := 0
 	for i, tok := range l {
 		if tok.Place.At < end || !strings.HasPrefix(s[tok.Place.At:], tok.Text) || tok.Text == "" {
-			t.Fatalf("All(%s): %s does not stand there", samples.Short(s), tokWord(tok))
+			t.Fatalf("All(%s): %s does not stand there", samples.Short(s), samples.TokWord(tok))
 		}
 		between(t, s, s[end:tok.Place.At], tok.Feeds)
 		standsThere(t, s, tok.Place)
 		if i > 0 && !rises(l[i-1].Place, tok.Place) {
-			t.Fatalf("All(%s): %s is not behind %s", samples.Short(s), tokWord(tok), tokWord(l[i-1]))
+			t.Fatalf("All(%s): %s is not behind %s", samples.Short(s), samples.TokWord(tok), samples.TokWord(l[i-1]))
 		}
 		end = tok.Place.At + len(tok.Text)
 	}
 	switch {
 	case code == api.OK && at != api.Place{}:
-		t.Fatalf("All(%s): no error, at %s", samples.Short(s), placeWord(at))
+		t.Fatalf("All(%s): no error, at %s", samples.Short(s), samples.PlaceWord(at))
 	case code == api.OK:
 		between(t, s, s[end:], strings.Count(s[end:], "\n"))
 	case code == api.ErrScanText:
@@ -60,23 +60,13 @@ func standsThere(t *testing.T, s string, p api.Place) {
 		return
 	}
 	if want, e := place.Of(s, p.At); e != api.OK || p != want {
-		t.Fatalf("All(%s): the place %s is none, it is %s", samples.Short(s), placeWord(p), placeWord(want))
+		t.Fatalf("All(%s): the place %s is none, it is %s", samples.Short(s), samples.PlaceWord(p), samples.PlaceWord(want))
 	}
 }
 
 func rises(a, b api.Place) bool {
 	return a.At < b.At && (a.Line < b.Line || a.Line == b.Line && a.Column < b.Column)
 }
-
-// sourceParts are what all short sources are made of: what each token begins with, goes on with and ends with, what parts
-// them, characters of each size, bad bytes that make a good character together, and what begins nothing.
-var sourceParts = []string{
-	"i", "f", "\u00e9", "\u65e5", "\U00010400", "_", "\u0301", "7", "\"", "'", "/", "{", "}", ":", "=", ".", "<",
-	" ", "\t", "\r", "\n", "\x01", "?", "\xff", "\xc3", "\xa9",
-}
-
-// fewParts are those of which somewhat longer ones are made.
-var fewParts = []string{"a", "7", "\"", "'", "/", "{", "}", " ", "\n", "\xc3", "\xa9"}
 
 // shortSources goes through all sources of at most so many parts, in several tests at once, one for each first part.
 func shortSources(t *testing.T, parts []string, most int, look func(t *testing.T, s string)) {
@@ -91,13 +81,17 @@ func shortSources(t *testing.T, parts []string, most int, look func(t *testing.T
 	}
 }
 
-func TestP10_1AllShortSourcesAsThePlainWay(t *testing.T) { shortSources(t, sourceParts, 4, asPlain) }
+func TestP10_1AllShortSourcesAsThePlainWay(t *testing.T) {
+	shortSources(t, samples.SourceParts(), 4, asPlain)
+}
 
-func TestP10_1SomeLongerSourcesAsThePlainWay(t *testing.T) { shortSources(t, fewParts, 6, asPlain) }
+func TestP10_1SomeLongerSourcesAsThePlainWay(t *testing.T) {
+	shortSources(t, samples.FewParts(), 6, asPlain)
+}
 
-func TestP10_2AllShortSources(t *testing.T) { shortSources(t, sourceParts, 4, follows) }
+func TestP10_2AllShortSources(t *testing.T) { shortSources(t, samples.SourceParts(), 4, follows) }
 
-func TestP10_2SomeLongerSources(t *testing.T) { shortSources(t, fewParts, 5, follows) }
+func TestP10_2SomeLongerSources(t *testing.T) { shortSources(t, samples.FewParts(), 5, follows) }
 
 // beginsSame holds P10.3 of a source and all its beginnings, which may be cut within a character.
 func beginsSame(t *testing.T, s string) {
@@ -113,14 +107,14 @@ func beginsSame(t *testing.T, s string) {
 		}
 		n := len(short) - 1
 		if len(l) < n || !slices.Equal(l[:n], short[:n]) {
-			t.Fatalf("All(%s) tells %s, and of its first %d bytes %s", samples.Short(s), answerWord(l, api.OK, api.Place{}), at, answerWord(short, api.OK, api.Place{}))
+			t.Fatalf("All(%s) tells %s, and of its first %d bytes %s", samples.Short(s), samples.AnswerWord(l, api.OK, api.Place{}), at, samples.AnswerWord(short, api.OK, api.Place{}))
 		}
 	}
 }
 
-func TestP10_3AllShortSources(t *testing.T) { shortSources(t, sourceParts, 4, beginsSame) }
+func TestP10_3AllShortSources(t *testing.T) { shortSources(t, samples.SourceParts(), 4, beginsSame) }
 
-func TestP10_3SomeLongerSources(t *testing.T) { shortSources(t, fewParts, 5, beginsSame) }
+func TestP10_3SomeLongerSources(t *testing.T) { shortSources(t, samples.FewParts(), 5, beginsSame) }
 
 func TestP10_3TokensThatGoOn(t *testing.T) {
 	for _, c := range []struct{ short, long, first, second string }{
@@ -141,43 +135,28 @@ func TestP10_3TokensThatGoOn(t *testing.T) {
 	}
 }
 
-// longParts are what long sources are made of: whole tokens and what parts them.
-var longParts = []string{
-	"a", "if ", "end\n", "x1", "\u00e9t\u00e9", "\u65e5\u672c ", "12", "7 ", "\"t\xff\u00e9\"", "\"\"", "'\u65e5'", "'\xff'",
-	":=", "=", ":", "..", ".", "<", ">=", ";", "(", ")", "%", "{ a \n\n \" // { }", "{}", "// c \t\r\n", "//\n", "// \xc3\u00e9\n",
-	" ", "\n", "\t", "\r\n", "\r", "\n\n\n",
-}
-
-// someSource is one of so many parts, and maybe more.
-func someSource(r *rand.Rand, size int) string {
-	var b strings.Builder
-	for range size {
-		b.WriteString(longParts[r.IntN(len(longParts))])
-	}
-	return b.String()
-}
-
 func TestP10_1LongSourcesAsThePlainWay(t *testing.T) {
 	r := rand.New(rand.NewPCG(10, 1))
+	parts := samples.SourceParts()
 	for range 300 {
-		s := someSource(r, 1+r.IntN(400))
+		s := samples.SomeSource(r.IntN, 1+r.IntN(400))
 		asPlain(t, s)
 		follows(t, s)
 		// With a part of it gone it has any error anywhere.
 		at := r.IntN(len(s))
 		asPlain(t, s[:at])
 		asPlain(t, s[:at]+s[at+r.IntN(len(s)-at):])
-		asPlain(t, s[:at]+sourceParts[r.IntN(len(sourceParts))]+s[at:])
+		asPlain(t, s[:at]+parts[r.IntN(len(parts))]+s[at:])
 	}
 	for range 5 {
-		asPlain(t, someSource(r, 50000))
+		asPlain(t, samples.SomeSource(r.IntN, 50000))
 	}
 }
 
 func TestP10_3LongSources(t *testing.T) {
 	r := rand.New(rand.NewPCG(10, 3))
 	for range 100 {
-		beginsSame(t, someSource(r, 1+r.IntN(100)))
+		beginsSame(t, samples.SomeSource(r.IntN, 1+r.IntN(100)))
 	}
 }
 
@@ -200,7 +179,7 @@ func TestR1AGreatSource(t *testing.T) {
 	for _, part := range []string{"a ", "1;", "{\n}", "//\n", "\"\u00e9\"", "\n\nx"} {
 		l, code, _ := scan.All(strings.Repeat(part, times))
 		if code != api.OK || len(l) < times || len(l)%times != 0 {
-			t.Fatalf("%d times %q: %d tokens, %s", times, part, len(l), errorWord(code))
+			t.Fatalf("%d times %q: %d tokens, %s", times, part, len(l), samples.ErrorWord(code))
 		}
 	}
 }
@@ -217,7 +196,7 @@ func TestR2WhatIsToldIsTheCallersOwn(t *testing.T) {
 	l = append(l[:0], l[1:]...)
 	third, thirdCode, thirdAt := scan.All(s)
 	if !slices.Equal(again, kept) || !slices.Equal(third, kept) || thirdCode != code || thirdAt != at {
-		t.Errorf("behind writing into an answer others are %s and %s", answerWord(again, 0, api.Place{}), answerWord(third, thirdCode, thirdAt))
+		t.Errorf("behind writing into an answer others are %s and %s", samples.AnswerWord(again, 0, api.Place{}), samples.AnswerWord(third, thirdCode, thirdAt))
 	}
 	_ = append(again[:2], api.Tok{})
 	if third[2] != kept[2] {
@@ -231,17 +210,17 @@ func TestR2TextsAreNew(t *testing.T) {
 	first := uintptr(unsafe.Pointer(unsafe.StringData(s)))
 	l, code, _ := scan.All(s)
 	if code != api.OK || len(l) != 9 {
-		t.Fatalf("All(%q) tells %s", s, answerWord(l, code, api.Place{}))
+		t.Fatalf("All(%q) tells %s", s, samples.AnswerWord(l, code, api.Place{}))
 	}
 	for _, tok := range l {
 		if at := uintptr(unsafe.Pointer(unsafe.StringData(tok.Text))); at >= first && at < first+uintptr(len(s)) {
-			t.Errorf("%s is part of the source", tokWord(tok))
+			t.Errorf("%s is part of the source", samples.TokWord(tok))
 		}
 	}
 }
 
 func TestR2Goroutines(t *testing.T) {
-	s := someSource(rand.New(rand.NewPCG(10, 4)), 2000)
+	s := samples.SomeSource(rand.New(rand.NewPCG(10, 4)).IntN, 2000)
 	want, code, at := plainAll(s)
 	var wait sync.WaitGroup
 	for range 8 {

@@ -169,6 +169,6 @@ func asPlain(t *testing.T, s string) {
 	l, code, at := scan.All(s)
 	want, wantCode, wantAt := plainAll(s)
 	if !slices.Equal(l, want) || code != wantCode || at != wantAt {
-		t.Fatalf("All(%s) tells\n  %s, not\n  %s", samples.Short(s), answerWord(l, code, at), answerWord(want, wantCode, wantAt))
+		t.Fatalf("All(%s) tells\n  %s, not\n  %s", samples.Short(s), samples.AnswerWord(l, code, at), samples.AnswerWord(want, wantCode, wantAt))
 	}
 }
