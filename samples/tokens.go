@@ -30,7 +30,7 @@ func KindWord(k api.TokKind) string {
 	return "kind " + strconv.Itoa(int(k))
 }
 
-// ErrorWord is what it calls an error of tokens.
+// ErrorWord is what it calls an error of tokens, or of what is made of them.
 func ErrorWord(e api.Errno) string {
 	switch e {
 	case api.OK:
@@ -47,6 +47,12 @@ func ErrorWord(e api.Errno) string {
 		return "ErrScanText"
 	case api.ErrScanLong:
 		return "ErrScanLong"
+	case api.ErrParseTok:
+		return "ErrParseTok"
+	case api.ErrParseEnd:
+		return "ErrParseEnd"
+	case api.ErrParseDeep:
+		return "ErrParseDeep"
 	}
 	return e.Error()
 }
