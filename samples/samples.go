@@ -1,5 +1,5 @@
-// Package samples makes the texts, the points, the sources and the layouts at which the tests hold the layers' calls against
-// the document, and has words for what these answer. No layer calls it.
+// Package samples makes the texts, the points, the sources, the layouts and the trees at which the tests hold the layers'
+// calls against the document, and has words for what these answer. No layer calls it.
 package samples
 
 import "iter"

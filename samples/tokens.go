@@ -53,6 +53,8 @@ func ErrorWord(e api.Errno) string {
 		return "ErrParseEnd"
 	case api.ErrParseDeep:
 		return "ErrParseDeep"
+	case api.ErrTreeForm:
+		return "ErrTreeForm"
 	}
 	return e.Error()
 }
