@@ -79,9 +79,7 @@ func (c course) lastHolds(t *testing.T) {
 
 // sorts are a token of each sort of the language, and some that stand nowhere.
 func sorts(g *grammar.Grammar) []api.Tok {
-	return append(g.Words(),
-		api.Tok{}, api.Tok{Kind: 9, Text: "a"}, api.Tok{Kind: 255, Text: ";"}, api.Tok{Kind: api.TokKey}, api.Tok{Kind: api.TokSign},
-		api.Tok{Kind: api.TokKey, Text: "a"}, api.Tok{Kind: api.TokKey, Text: ";"}, api.Tok{Kind: api.TokSign, Text: "skip"}, api.Tok{Kind: api.TokSign, Text: "?"})
+	return append(g.Words(), samples.Nowhere()...)
 }
 
 // growing holds what the last call tells of each row that has such tokens, which begin a program, and at most so many more,

@@ -10,42 +10,10 @@ import (
 	"colophon/samples"
 )
 
-// nest is a part that stands in itself, and what stands in the last one.
-type nest struct{ ahead, part, behind string }
+// nest is a part of a program that stands in itself.
+type nest struct{ samples.Nest }
 
-func (n nest) row(times int) []api.Tok {
-	return tokens(n.ahead + strings.Repeat(n.part, times) + n.behind)
-}
-
-func nests() []nest {
-	return []nest{
-		{"program p;begin a:=", "- ", "b[c"},
-		{"program p;begin a:=", "not ", "1"},
-		{"program p;begin a:=", "(", "b+c"},
-		{"program p;begin a:=1+", "(", "- -b"},
-		{"program p;begin a:=1=", "(", "not b"},
-		{"program p;begin return ", "b(", "c.d"},
-		{"program p;begin ", "b[", "'c'"},
-		{"program p;begin return 1 and ", "b[c,", "-d"},
-		{"program p;begin a;b.c:=", "d.e(f,", "g())"},
-		{"program p;", "proc f;", "begin skip end;begin skip"},
-		{"program p;", "proc f(a:t);", "var a:t;begin b"},
-		{"program p;", "proc f:t;", "proc g(a:t"},
-		{"program p;const a=1;", "proc f;const a=1;", "const b=2"},
-		{"program p;var a:", "array[1..b]of ", "t"},
-		{"program p;var a:", "array[1..1]of ", "record b:t end"},
-		{"program p;proc f(a:", "record b:", "t"},
-		{"program p;proc f:", "record a,b:t;c:", "record d:t"},
-		{"program p;", "begin ", "skip;return(1)"},
-		{"program p;begin ", "skip;begin ", "a"},
-		{"program p;begin ", "if a then ", "if b then skip"},
-		{"program p;begin ", "if a then skip else ", "return"},
-		{"program p;begin ", "if a then skip elif b then ", "return c"},
-		{"program p;begin ", "while a do ", "for i:=1 to 2 do skip"},
-		{"program p;begin ", "for i:=a to b do ", "while a do skip"},
-		{"program p;begin ", "repeat ", "repeat skip until a until b"},
-	}
-}
+func (n nest) row(times int) []api.Tok { return tokens(n.Source(times)) }
 
 // depths are how many nodes are open behind each token of a row, with the part as often as is asked for. The grammar says
 // it of three times, and each time more is as much deeper as the third is than the second.
@@ -54,7 +22,7 @@ func (n nest) depths(t *testing.T, g *grammar.Grammar, times int) []int {
 	for _, a := range courseOf(t, g, n.row(3)).puts {
 		three = append(three, a.depth)
 	}
-	first, part := len(tokens(n.ahead)), len(tokens(n.part))
+	first, part := len(tokens(n.Ahead)), len(tokens(n.Part))
 	second, third, rest := three[first+part:][:part], three[first+2*part:][:part], three[first+3*part:]
 	each := third[0] - second[0]
 	l := append([]int{}, three[:first+3*part]...)
@@ -78,13 +46,13 @@ func (n nest) holds(t *testing.T, times int, depths []int) (last int) {
 		got := put(p, tok)
 		if depths[i] > api.MaxDepth {
 			if want := (answer{code: api.ErrParseDeep, depth: depths[i-1]}); !got.same(want) {
-				t.Fatalf("%s%d times %s: at %d %s, not %s", n.ahead, times, n.part, i, got, want)
+				t.Fatalf("%s%d times %s: at %d %s, not %s", n.Ahead, times, n.Part, i, got, want)
 			}
 			isStuck(t, p, api.ErrParseDeep, depths[i-1])
 			return i
 		}
 		if got.code != api.OK || got.depth != depths[i] {
-			t.Fatalf("%s%d times %s: at %d %s, not %d", n.ahead, times, n.part, i, got, depths[i])
+			t.Fatalf("%s%d times %s: at %d %s, not %d", n.Ahead, times, n.Part, i, got, depths[i])
 		}
 	}
 	return len(l)
@@ -94,7 +62,8 @@ func (n nest) holds(t *testing.T, times int, depths []int) (last int) {
 func TestP12_2Deep(t *testing.T) {
 	t.Parallel()
 	g := grammar.New()
-	for _, n := range nests() {
+	for _, part := range samples.Nests() {
+		n := nest{part}
 		three := n.depths(t, g, 3)
 		each := (n.depths(t, g, 1003)[len(n.row(1003))-1] - three[len(three)-1]) / 1000
 		good, bad := 0, 0
@@ -106,7 +75,7 @@ func TestP12_2Deep(t *testing.T) {
 			}
 		}
 		if good == 0 || bad == 0 {
-			t.Errorf("%s%s: %d good ones and %d others", n.ahead, n.part, good, bad)
+			t.Errorf("%s%s: %d good ones and %d others", n.Ahead, n.Part, good, bad)
 		}
 	}
 }

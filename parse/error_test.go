@@ -5,6 +5,7 @@ import (
 
 	"colophon/api"
 	"colophon/parse"
+	"colophon/samples"
 )
 
 func TestP12_1New(t *testing.T) {
@@ -68,7 +69,7 @@ func TestP12_3CloseCloses(t *testing.T) {
 
 // Depth changes nothing, however often it is asked.
 func TestP12_4AskingChangesNothing(t *testing.T) {
-	for _, source := range append(forms(), "program p;;", "") {
+	for _, source := range append(samples.Programs(), "program p;;", "") {
 		p := parse.New()
 		q := parse.New()
 		for _, tok := range tokens(source) {

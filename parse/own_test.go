@@ -65,7 +65,7 @@ func TestR2ParsersInGoroutines(t *testing.T) {
 
 // What is told is the caller's own: nothing that is done to it is seen in another answer.
 func TestR2WhatIsToldIsTheCallersOwn(t *testing.T) {
-	for _, source := range forms() {
+	for _, source := range samples.Programs() {
 		l := tokens(strings.ReplaceAll(source, ";", ";{note}"))
 		want, _ := all(l)
 		var got []api.Event
@@ -164,7 +164,7 @@ func TestR2NothingGrows(t *testing.T) {
 
 // The same tokens, put to another parser, tell the same.
 func TestR2TheSameAgain(t *testing.T) {
-	for _, source := range append(forms(), "program p;begin a:=;", "program p;begin", "{a}") {
+	for _, source := range append(samples.Programs(), "program p;begin a:=;", "program p;begin", "{a}") {
 		if a, b := said(tokens(source)), said(tokens(source)); a != b {
 			t.Errorf("%s, and then %s", a, b)
 		}

@@ -232,7 +232,7 @@ func TestP12_4OpenTillTheNext(t *testing.T) {
 
 // The Leafs are the tokens, as they were put; what an event has no meaning for is zero.
 func TestP12_2LeafsAreTheTokens(t *testing.T) {
-	for _, source := range forms() {
+	for _, source := range samples.Programs() {
 		l := tokens(strings.ReplaceAll(source, ";", " ;\n\n {note}\n "))
 		events, code := all(l)
 		if code != api.OK {

@@ -6,6 +6,7 @@ import (
 
 	"colophon/api"
 	"colophon/grammar"
+	"colophon/samples"
 )
 
 // All rows of few tokens, whatever they are, up to the first one that can't stand.
@@ -17,25 +18,11 @@ func TestP12_2AllRowsOfFewTokens(t *testing.T) {
 	}
 }
 
-// forms are programs that have all of the grammar's forms together, most of them in their shortest shape.
-func forms() []string {
-	return []string{
-		"program p;begin skip end.",
-		"program p;var a,b:t;const c=1;proc f;begin skip end;begin f end.",
-		"program p;proc f(a,b:t;c:u):v;begin return end;proc g:v;begin return 1 end;begin skip;skip end.",
-		"program p;var a:array[1..2]of array[b..c]of t;var a:record b,c:t;d:record e:u end end;begin skip end.",
-		"program p;begin a;a:=b;a[1,2].b(c,d)();a.b.c:=d[e] end.",
-		"program p;begin if a then skip elif b then skip elif c then skip else skip end;if a then skip end end.",
-		"program p;begin while a do skip;skip end;for i:=1 to 2 do skip end;repeat skip until a;begin skip end end.",
-		"program p;begin a:=-b*not c/(d)%\"t\"+'c'-e=f+g and h or i<j end.",
-	}
-}
-
-// Behind each beginning of these, all rows of two tokens more.
+// Behind each beginning of some programs, all rows of two tokens more.
 func TestP12_2AllRowsBehindTheForms(t *testing.T) {
 	t.Parallel()
 	g := grammar.New()
-	for _, source := range forms() {
+	for _, source := range samples.Programs() {
 		l := tokens(source)
 		for i := range l {
 			growing(t, g, l[:i+1], 2)
@@ -49,7 +36,7 @@ func TestP12_3EachBeginningOfAProgram(t *testing.T) {
 	g := grammar.New()
 	r := rand.New(rand.NewPCG(12, 2))
 	programs := [][]api.Tok{}
-	for _, source := range forms() {
+	for _, source := range samples.Programs() {
 		programs = append(programs, tokens(source))
 	}
 	for size := range 40 {

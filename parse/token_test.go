@@ -11,14 +11,6 @@ import (
 	"colophon/samples"
 )
 
-// texts that a token may have, whatever its kind is: words and signs of the language, and what is no token's text at all.
-func anyTexts() []string {
-	return []string{
-		"", " ", "a", "A", "1", "\"t\"", "'c'", "begin", "end", "BEGIN", "begin ", " begin", "begin end", "and", "not", ";", ":=", ": =", "=", ":", ".", "..", "(", "()", "-", "--",
-		"!", "?", "//", "{}", "\n", "\x00", "\xff", "\u65e5", "NAME", "NUMBER", "Program",
-	}
-}
-
 // Of a name, a number, a text and a character the kind alone counts: any Text tells the same, and stands in the Leaf.
 func TestP12_2KindsThatCountAlone(t *testing.T) {
 	g := grammar.New()
@@ -28,7 +20,7 @@ func TestP12_2KindsThatCountAlone(t *testing.T) {
 		if tok.Kind == api.TokKey || tok.Kind == api.TokSign {
 			continue
 		}
-		for _, text := range anyTexts() {
+		for _, text := range samples.TokTexts() {
 			other := course{tokens: slices.Clone(l), puts: slices.Clone(c.puts), close: c.close}
 			other.tokens[i].Text = text
 			other.puts[i].events = slices.Clone(c.puts[i].events)
@@ -62,7 +54,7 @@ func can(t *testing.T, g *grammar.Grammar, l []api.Tok) []api.Tok {
 	t.Helper()
 	var good []api.Tok
 	for kind := range 256 {
-		for _, text := range anyTexts() {
+		for _, text := range samples.TokTexts() {
 			tok := api.Tok{Kind: api.TokKind(kind), Text: text}
 			p := behind(t, l)
 			depth := p.Depth()
@@ -111,7 +103,7 @@ func TestP12_2WhatStandsNowhere(t *testing.T) {
 			}
 		}
 		less := func(a, b api.Tok) int {
-			return 100*(int(a.Kind)-int(b.Kind)) + slices.Index(anyTexts(), a.Text) - slices.Index(anyTexts(), b.Text)
+			return 100*(int(a.Kind)-int(b.Kind)) + slices.Index(samples.TokTexts(), a.Text) - slices.Index(samples.TokTexts(), b.Text)
 		}
 		slices.SortFunc(want, less)
 		if !slices.Equal(got, want) {
@@ -123,7 +115,7 @@ func TestP12_2WhatStandsNowhere(t *testing.T) {
 // Each word and each sign of the language stands somewhere.
 func TestP12_2EachWordAndSignStandsSomewhere(t *testing.T) {
 	met := map[string]int{}
-	for _, source := range append(forms(), "program p;begin a:=b>c and d>=e or f<=g and h#i end.") {
+	for _, source := range append(samples.Programs(), "program p;begin a:=b>c and d>=e or f<=g and h#i end.") {
 		events, _ := all(tokens(source))
 		for _, e := range events {
 			if e.Kind == api.Leaf {
@@ -136,24 +128,6 @@ func TestP12_2EachWordAndSignStandsSomewhere(t *testing.T) {
 			t.Errorf("%s was not met", tok.Text)
 		}
 	}
-}
-
-// noted are tokens with comments ahead of each of them, as many as times says, and behind the last one.
-func noted(l []api.Tok, times func(at int) int) []api.Tok {
-	var all []api.Tok
-	for i := range len(l) + 1 {
-		for n := range times(i) {
-			note := api.Tok{Kind: api.TokLine, Text: "// one", Place: api.Place{At: i, Line: n, Column: 3}, Feeds: n}
-			if (i+n)%2 == 0 {
-				note.Kind, note.Text = api.TokBlock, "{two}"
-			}
-			all = append(all, note)
-		}
-		if i < len(l) {
-			all = append(all, l[i])
-		}
-	}
-	return all
 }
 
 // notesHold that comments are Notes, and change nothing else, but that the first event comes with them.
@@ -189,13 +163,13 @@ func isProgram(e api.Event) bool { return e.Kind == api.Open && e.Node == api.Pr
 // Comments ahead of the first token, between any two and behind the last one; one, and several.
 func TestP12_5Comments(t *testing.T) {
 	g := grammar.New()
-	for _, source := range forms() {
+	for _, source := range samples.Programs() {
 		l := tokens(source)
 		for end := range len(l) + 1 {
 			c := courseOf(t, g, l[:end])
 			for place := range end + 1 {
 				for _, n := range []int{1, 3} {
-					notesHold(t, c, noted(l[:end], func(at int) int {
+					notesHold(t, c, samples.Noted(l[:end], func(at int) int {
 						if at == place {
 							return n
 						}
@@ -203,16 +177,16 @@ func TestP12_5Comments(t *testing.T) {
 					}))
 				}
 			}
-			notesHold(t, c, noted(l[:end], func(int) int { return 1 }))
-			notesHold(t, c, noted(l[:end], func(at int) int { return at % 3 }))
-			notesHold(t, c, noted(l[:end], func(at int) int { return (at + 2) % 3 }))
+			notesHold(t, c, samples.Noted(l[:end], func(int) int { return 1 }))
+			notesHold(t, c, samples.Noted(l[:end], func(at int) int { return at % 3 }))
+			notesHold(t, c, samples.Noted(l[:end], func(at int) int { return (at + 2) % 3 }))
 		}
 	}
 }
 
 // A comment of any Text is one, and behind it the same tokens can stand.
 func TestP12_5CommentsOfAnyText(t *testing.T) {
-	for _, text := range anyTexts() {
+	for _, text := range samples.TokTexts() {
 		for _, kind := range []api.TokKind{api.TokLine, api.TokBlock} {
 			note := api.Tok{Kind: kind, Text: text, Feeds: 3}
 			p := parse.New()
