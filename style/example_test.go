@@ -1,7 +1,6 @@
 package style_test
 
 import (
-	"strings"
 	"testing"
 
 	"colophon/api"
@@ -9,42 +8,11 @@ import (
 	"colophon/style"
 )
 
-// example is a source, and how it is formatted.
-type example struct {
-	width        int
-	source, want string
-}
-
-// lines are lines, each with its end.
-func lines(l ...string) string { return strings.Join(l, "\n") + "\n" }
-
-// examples are those of the chapter, and then those of the document's whole.
-func examples() []example {
-	return []example{
-		{20, "program p;begin x:=1;y:=f(a,b)end.", lines("program p;", "begin", "  x := 1;", "  y := f(a, b)", "end.")},
-		{20, "program p;begin if a then skip else begin skip end end end.",
-			lines("program p;", "begin", "  if a then", "    skip", "  else", "    begin", "      skip", "    end", "  end", "end.")},
-		{20, "program p; // q\nbegin {x} x:= // one\n\n\n1; {two} skip\n// three\nend.",
-			lines("program p; // q", "begin {x}", "  x := // one", "    1; {two}", "  skip", "  // three", "end.")},
-		{20, "program p;var aaaaaa,bbbbbb,cccccc:t;begin a:=bbbbbbb+ccccccc*ddddddd end.",
-			lines("program p;", "var aaaaaa, bbbbbb,", "    cccccc: t;", "begin", "  a :=", "    bbbbbbb +", "    ccccccc *", "    ddddddd", "end.")},
-		{72, "program p;begin x:=1;y:=f(a,b)end.", lines("program p;", "begin", "  x := 1;", "  y := f(a, b)", "end.")},
-		{12, "program p;begin x:=1;y:=f(a,b)end.", lines("program p;", "begin", "  x := 1;", "  y :=", "    f(a, b)", "end.")},
-		{72, "program p; // q\nbegin {x} x:= // one\n\n\n1; {two} skip\n// three\nend.\n",
-			lines("program p; // q", "begin {x}", "  x := // one", "    1; {two}", "  skip", "  // three", "end.")},
-		{1, "program p;begin x:=a+b end.", lines("program p;", "begin", "  x :=", "    a +", "    b", "end.")},
-		{72, lines("program p;", "", "", "var a:array[1..n]of record x,y:int;z:t end;", "proc f(a:t;b:u):v;begin return a end;", "", "begin", "", "skip;", "", "",
-			"if not a or b=-1 then f() elif c then g[1,2].h else repeat skip until d end end."),
-			lines("program p;", "", "var a: array [1..n] of record", "  x, y: int;", "  z: t", "end;", "proc f(a: t; b: u): v;", "  begin", "    return a", "  end;",
-				"begin", "  skip;", "", "  if not a or b = -1 then", "    f()", "  elif c then", "    g[1, 2].h", "  else", "    repeat", "      skip", "    until d", "  end", "end.")},
-	}
-}
-
 // By syntax, style and whole together.
 func TestP15_2Examples(t *testing.T) {
-	for _, x := range examples() {
-		if got := printed(t, x.width, laidOf(t, x.source)); got != x.want {
-			t.Errorf("%q, %d:\n%s\nnot\n%s", x.source, x.width, got, x.want)
+	for _, x := range samples.Examples() {
+		if got := printed(t, x.Width, laidOf(t, x.Source)); got != x.Want {
+			t.Errorf("%q, %d:\n%s\nnot\n%s", x.Source, x.Width, got, x.Want)
 		}
 	}
 }

@@ -88,12 +88,12 @@ func TestP15_4Programs(t *testing.T) {
 	g := grammar.New()
 	r := rand.New(rand.NewPCG(15, 4))
 	for _, source := range samples.Programs() {
-		for _, gap := range gaps() {
-			mayBe(t, eventsOf(tokens(gapped(tokens(source), func(int) string { return gap }))))
+		for _, gap := range samples.Gaps() {
+			mayBe(t, eventsOf(tokens(samples.Gapped(tokens(source), func(int) string { return gap }))))
 		}
 	}
 	for size := range 300 {
-		mayBe(t, eventsOf(tokens(someSource(r.IntN, g.Some(r.IntN, 2*size)))))
+		mayBe(t, eventsOf(tokens(samples.SomeGapped(r.IntN, g.Some(r.IntN, 2*size)))))
 	}
 }
 
@@ -103,7 +103,7 @@ func TestP15_4WhatComesBehind(t *testing.T) {
 	var programs [][]api.Event
 	for _, source := range samples.Programs() {
 		for _, gap := range []string{"", "\n\n", "{c}", "\n//c\n"} {
-			programs = append(programs, eventsOf(tokens(gapped(tokens(source), func(int) string { return gap }))))
+			programs = append(programs, eventsOf(tokens(samples.Gapped(tokens(source), func(int) string { return gap }))))
 		}
 	}
 	for _, a := range programs {

@@ -22,7 +22,7 @@ func programs() [][]api.Event {
 	r := rand.New(rand.NewPCG(15, 6))
 	var all [][]api.Event
 	for size := range 60 {
-		all = append(all, eventsOf(tokens(someSource(r.IntN, g.Some(r.IntN, 5*size)))))
+		all = append(all, eventsOf(tokens(samples.SomeGapped(r.IntN, g.Some(r.IntN, 5*size)))))
 	}
 	return all
 }

@@ -310,14 +310,14 @@ func TestPlain(t *testing.T) {
 			t.Errorf("%+v", r)
 		}
 	}
-	for _, x := range examples() {
+	for _, x := range samples.Examples() {
 		p := newPlain()
 		var all []api.Doc
-		for _, e := range eventsOf(tokens(x.source)) {
+		for _, e := range eventsOf(tokens(x.Source)) {
 			all = append(all, p.put(e).laid...)
 		}
-		if got := printed(t, x.width, append(all, p.close().laid...)); got != x.want {
-			t.Errorf("%q: %s", x.source, got)
+		if got := printed(t, x.Width, append(all, p.close().laid...)); got != x.Want {
+			t.Errorf("%q: %s", x.Source, got)
 		}
 	}
 }
