@@ -92,13 +92,13 @@ func TestR2AFaultIsAnotherOneEachTime(t *testing.T) {
 		}
 		for _, call := range calls {
 			first, second := call(), call()
-			want := wordOf(second)
+			want := samples.FaultWord(second)
 			f, ok := first.(*api.Fault)
 			if !ok || first == second {
 				t.Fatalf("%s: %v and %v", samples.Short(c.source), first, second)
 			}
 			*f = api.Fault{Code: 99, Place: api.Place{At: 98, Line: 97, Column: 96}}
-			if wordOf(second) != want || wordOf(call()) != want {
+			if samples.FaultWord(second) != want || samples.FaultWord(call()) != want {
 				t.Fatalf("%s: another Fault changed", samples.Short(c.source))
 			}
 		}

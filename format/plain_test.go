@@ -2,11 +2,11 @@ package format_test
 
 import (
 	"strings"
-	"unicode/utf8"
 
 	"colophon/api"
 	"colophon/lex"
 	"colophon/parse"
+	"colophon/samples"
 	"colophon/stream"
 	"colophon/style"
 )
@@ -22,7 +22,7 @@ type other struct {
 
 func otherWay(source string) answer {
 	if len(source) > api.MaxText {
-		return answer{wrong: faultWord(api.ErrLong, api.Place{})}
+		return answer{wrong: samples.FaultAt(api.ErrLong, api.Place{})}
 	}
 	o := &other{styler: style.New(), parser: parse.New()}
 	l := lex.New()
@@ -31,7 +31,7 @@ func otherWay(source string) answer {
 	if o.wrong == "" {
 		events, code := o.parser.Close()
 		o.put(events)
-		o.refuse(code, endOf(source))
+		o.refuse(code, samples.EndOf(source))
 	}
 	if o.wrong != "" {
 		return answer{wrong: o.wrong}
@@ -63,14 +63,8 @@ func (o *other) put(events []api.Event) {
 // refuse keeps what is wrong first.
 func (o *other) refuse(code api.Errno, at api.Place) {
 	if code != api.OK && o.wrong == "" {
-		o.wrong = faultWord(code, at)
+		o.wrong = samples.FaultAt(code, at)
 	}
-}
-
-// endOf is the place behind a source's last byte: a character there is what Go takes for one.
-func endOf(source string) api.Place {
-	line := source[strings.LastIndex(source, "\n")+1:]
-	return api.Place{At: len(source), Line: 1 + strings.Count(source, "\n"), Column: 1 + utf8.RuneCountInString(line)}
 }
 
 // streamed is what a layout is at a width, printed piece by piece.

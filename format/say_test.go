@@ -1,7 +1,6 @@
 package format_test
 
 import (
-	"errors"
 	"fmt"
 	"slices"
 	"testing"
@@ -48,33 +47,12 @@ func (a answer) String() string {
 
 func layout(source string) answer {
 	l, err := format.Layout(source)
-	return answer{laid: l, wrong: wordOf(err)}
+	return answer{laid: l, wrong: samples.FaultWord(err)}
 }
 
 func formatted(width int, source string) answer {
 	s, err := format.Format(width, source)
-	return answer{text: s, wrong: wordOf(err)}
-}
-
-// wordOf tells an error: its number and its place. It says so if that is no Fault, or is not found in it as the document
-// has it found.
-func wordOf(err error) string {
-	if err == nil {
-		return ""
-	}
-	f, ok := err.(*api.Fault)
-	var found *api.Fault
-	switch {
-	case !ok || f == nil || f.Code == api.OK:
-		return fmt.Sprintf("no Fault: %#v", err)
-	case !errors.As(err, &found) || found != f || !errors.Is(err, f.Code) || errors.Is(err, f.Code+1):
-		return fmt.Sprintf("not found: %#v", err)
-	}
-	return faultWord(f.Code, f.Place)
-}
-
-func faultWord(code api.Errno, at api.Place) string {
-	return samples.ErrorWord(code) + " at " + samples.PlaceWord(at)
+	return answer{text: s, wrong: samples.FaultWord(err)}
 }
 
 // wrong is a source, and what is wrong with it.
