@@ -76,8 +76,8 @@ func TestP18_1Widths(t *testing.T) {
 	for _, width := range []int{0, 4097, -1, 4098, 1 << 16, 1<<32 + 72, math.MinInt, math.MaxInt} {
 		holdsIs(t, width, formed, refused("error 1 at 0 0:0"))
 		holdsIs(t, width, formed+" ", refused("error 1 at 0 0:0"))
-		for _, c := range wrongs() {
-			holdsIs(t, width, c.source, refused("error 1 at 0 0:0"))
+		for _, c := range samples.Wrongs() {
+			holdsIs(t, width, c.Source, refused("error 1 at 0 0:0"))
 		}
 	}
 	for _, width := range []int{1, 2, 4095, 4096} {
@@ -88,9 +88,9 @@ func TestP18_1Widths(t *testing.T) {
 
 // What is wrong with a source, and where; also of the empty one, which is all that Format tells beside an error.
 func TestP18_1Errors(t *testing.T) {
-	for _, c := range wrongs() {
+	for _, c := range samples.Wrongs() {
 		for _, width := range []int{1, 72, 4096} {
-			holdsIs(t, width, c.source, refused(c.want))
+			holdsIs(t, width, c.Source, refused(c.Want))
 		}
 	}
 }

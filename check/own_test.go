@@ -21,8 +21,8 @@ func sources(t *testing.T) []string {
 	g := grammar.New()
 	r := rand.New(rand.NewPCG(18, 7))
 	var all []string
-	for _, c := range wrongs() {
-		all = append(all, c.source)
+	for _, c := range samples.Wrongs() {
+		all = append(all, c.Source)
 	}
 	for size := range 20 {
 		source := samples.SomeGapped(r.IntN, g.Some(r.IntN, 4*size))
@@ -80,11 +80,11 @@ func TestR2NoGoroutineIsLeft(t *testing.T) {
 // A Fault is another one each time: what is written into it is seen in no other.
 func TestR2AFaultIsAnotherOneEachTime(t *testing.T) {
 	calls := []func() error{func() error { _, err := check.Is(0, formed); return err }}
-	for _, c := range wrongs() {
+	for _, c := range samples.Wrongs() {
 		calls = append(calls,
-			func() error { _, err := check.Is(72, c.source); return err },
-			func() error { _, err := check.Same(c.source, formed); return err },
-			func() error { _, err := check.Same(formed, c.source); return err },
+			func() error { _, err := check.Is(72, c.Source); return err },
+			func() error { _, err := check.Same(c.Source, formed); return err },
+			func() error { _, err := check.Same(formed, c.Source); return err },
 		)
 	}
 	for _, call := range calls {

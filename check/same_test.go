@@ -29,19 +29,19 @@ func TestP18_2Examples(t *testing.T) {
 
 // What is wrong with the first source goes ahead of what is wrong with the second; an error is told, whatever the other is.
 func TestP18_2Errors(t *testing.T) {
-	all := wrongs()
+	all := samples.Wrongs()
 	for _, c := range all {
 		for _, good := range []string{formed, head + "end."} {
-			if got := same(c.source, good); got != refused(c.want) {
-				t.Errorf("%s, %q: %s, not %s", samples.Short(c.source), good, got, c.want)
+			if got := same(c.Source, good); got != refused(c.Want) {
+				t.Errorf("%s, %q: %s, not %s", samples.Short(c.Source), good, got, c.Want)
 			}
-			if got := same(good, c.source); got != refused(c.want) {
-				t.Errorf("%q, %s: %s, not %s", good, samples.Short(c.source), got, c.want)
+			if got := same(good, c.Source); got != refused(c.Want) {
+				t.Errorf("%q, %s: %s, not %s", good, samples.Short(c.Source), got, c.Want)
 			}
 		}
 		for _, d := range all {
-			if got := same(c.source, d.source); got != refused(c.want) {
-				t.Errorf("%s, %s: %s, not %s", samples.Short(c.source), samples.Short(d.source), got, c.want)
+			if got := same(c.Source, d.Source); got != refused(c.Want) {
+				t.Errorf("%s, %s: %s, not %s", samples.Short(c.Source), samples.Short(d.Source), got, c.Want)
 			}
 		}
 	}

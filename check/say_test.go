@@ -2,7 +2,6 @@ package check_test
 
 import (
 	"fmt"
-	"strings"
 	"testing"
 
 	"colophon/api"
@@ -87,30 +86,4 @@ func at(source string, place int, part string) string {
 		}
 		return ""
 	})
-}
-
-// wrong is a source, and what is wrong with it.
-type wrong struct{ source, want string }
-
-// wrongs are sources with every error that format has.
-func wrongs() []wrong {
-	long := strings.Repeat("a", api.MaxTok+1)
-	return []wrong{
-		{"", "ErrParseEnd at 0 1:1"},
-		{" \n{\u65e5}", "ErrParseEnd at 7 2:4"},
-		{"x", "ErrParseTok at 0 1:1"},
-		{"?", "ErrScanByte at 0 1:1"},
-		{"; ?", "ErrParseTok at 0 1:1"},
-		{"? ;", "ErrScanByte at 0 1:1"},
-		{head, "ErrParseEnd at 21 1:22"},
-		{head + "end", "ErrParseEnd at 24 1:25"},
-		{head + "end.;", "ErrParseTok at 25 1:26"},
-		{head + "end.\n \xff", "ErrScanByte at 27 2:2"},
-		{"program p;\nbegin {", "ErrScanOpen at 17 2:7"},
-		{"program p;begin a:=\"\u00e9\t\" end.", "ErrScanText at 22 1:22"},
-		{"program " + long + ";", "ErrScanLong at 8 1:9"},
-		{"program p;begin a:=" + strings.Repeat("(", 199) + "b", "ErrParseDeep at 218 1:219"},
-		{head + "end." + strings.Repeat(" ", api.MaxText-24), "error 2 at 0 0:0"},
-		{strings.Repeat("?", api.MaxText+1), "error 2 at 0 0:0"},
-	}
 }
